@@ -4,6 +4,7 @@ import (
 	"fmt"
 	"math/rand/v2"
 	"runtime"
+	"runtime/metrics"
 	"slices"
 	"testing"
 	"time"
@@ -394,30 +395,31 @@ func TestGoroutinesEnd(t *testing.T) {
 	}
 }
 
-// 'Ways': each of the two plays has a goroutine of its own; some time during a long Try both are seen.
+// created tells how many goroutines have begun since the program did.
+func created() int {
+	x := []metrics.Sample{{Name: "/sched/goroutines-created:goroutines"}}
+	metrics.Read(x)
+	return int(x[0].Value.Uint64())
+}
+
+// 'Ways': each of the two plays has a goroutine of its own, and a Try that is refused has none.
 func TestGoroutinesOfBoth(t *testing.T) {
+	const many = 200
 	c := known(t)
-	x := api.Play{Programs: programsOf(t, "jmp 0", "jmp 0"), Picks: slices.Repeat([]int{0, 1}, api.MaxPicks/2)}
-	before, most := runtime.NumGoroutine(), 0
-	for tries := 0; most < 3 && tries < 50; tries++ {
-		done := make(chan bool)
-		go func() {
-			trial.Try(c, 0, x, x)
-			close(done)
-		}()
-		for going := true; going; {
-			select {
-			case <-done:
-				going = false
-			default:
-				most = max(most, runtime.NumGoroutine()-before)
-				runtime.Gosched()
-			}
+	one, another := knownPlays(t)
+	begun := func(p int) int {
+		before := created()
+		for range many {
+			trial.Try(c, p, one, another)
 		}
+		return created() - before
 	}
-	// One of them is this test's own.
-	if most != 3 {
-		t.Errorf("%d goroutines at the most, want 3", most)
+	// The library has a few of its own, now and then.
+	if n := begun(0); n < 2*many || n > 2*many+many/2 {
+		t.Errorf("%d tries have begun %d goroutines, want %d", many, n, 2*many)
+	}
+	if n := begun(1); n > many/2 {
+		t.Errorf("%d tries that are refused have begun %d goroutines", many, n)
 	}
 }
 
